@@ -106,7 +106,7 @@ func (p *pair) runs(picks ...int) (int, api.Errno) {
 	n, f := 0, api.OK
 	for _, t := range picks {
 		if !p.is(t) {
-			n, f = 0, api.ErrArg
+			f = api.ErrArg
 			break
 		}
 		if _, e := p.by.Step(t); e == api.OK {

@@ -167,7 +167,7 @@ func TestRunRows(t *testing.T) {
 	})
 }
 
-// P17.1: Run by numbers: how many steps were done, none of whoever has no call, none behind what is no thread.
+// P17.1: Run by numbers: how many steps were done, those ahead of what is no thread, too; none of whoever has no call, none behind what is no thread.
 func TestRun(t *testing.T) {
 	for _, x := range []struct {
 		picks  []int
@@ -185,12 +185,12 @@ func TestRun(t *testing.T) {
 		{[]int{7, 0}, 1, api.OK, 3},
 		{[]int{8}, 0, api.ErrArg, 4},
 		{[]int{-1}, 0, api.ErrArg, 4},
-		{[]int{0, 8}, 0, api.ErrArg, 3},
-		{[]int{0, 0, -1, 0}, 0, api.ErrArg, 2},
-		{[]int{0, 0, 0, 0, 0, 8}, 0, api.ErrArg, 0},
+		{[]int{0, 8}, 1, api.ErrArg, 3},
+		{[]int{0, 0, -1, 0}, 2, api.ErrArg, 2},
+		{[]int{0, 0, 0, 0, 0, 8}, 4, api.ErrArg, 0},
 		{[]int{8, 0}, 0, api.ErrArg, 4},
 		{[]int{math.MinInt, 0}, 0, api.ErrArg, 4},
-		{[]int{0, math.MaxInt, 0}, 0, api.ErrArg, 3},
+		{[]int{0, math.MaxInt, 0}, 1, api.ErrArg, 3},
 		{[]int{256, 0}, 0, api.ErrArg, 4},
 		{[]int{1 << 32, 0}, 0, api.ErrArg, 4},
 	} {
@@ -215,6 +215,22 @@ func TestRun(t *testing.T) {
 		}
 		p.same()
 	}
+}
+
+// P17.1: beside ErrArg the number is that of the steps which were done ahead of it, of all threads that were picked.
+func TestRunTellsStepsAheadOfError(t *testing.T) {
+	p := upPair(t, 8, 8, 3)
+	for th := range 2 {
+		p.calls(th, api.Call{Kind: api.Malloc, N: 16})
+	}
+	p.runs(1, 1, 2, 0, 1)
+	if n, e := p.runs(1, 3, 1); n != 1 || e != api.ErrArg || p.w.Pending(1) || !p.w.Pending(0) {
+		p.fatal("Run", n, e)
+	}
+	if n, e := p.runs(2, 0, 1, 0, -1, 0); n != 2 || e != api.ErrArg || !p.w.Pending(0) {
+		p.fatal("Run", n, e)
+	}
+	p.same()
 }
 
 // P17.1: behind its Exit a thread is still one, that has no call.
